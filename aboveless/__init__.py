@@ -1,0 +1,1 @@
+"""Aboveless: a database in which nobody can tell what is above them."""

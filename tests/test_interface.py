@@ -1,0 +1,100 @@
+"""Whether each listed name is defined in its file, with the listed parameters."""
+
+import importlib
+import inspect
+import unittest
+
+FUNCTIONS = {
+    "errors": {"told_error": "(error)"},
+    "labels": {"in_order": "(labels)"},
+    "values": {
+        "is_name": "(value)", "is_integer": "(value)", "is_count": "(value)",
+        "is_value": "(sort, value, *, may_be_empty=False)", "value_text": "(value)", "read_value": "(text)",
+        "in_value_order": "(values)",
+    },
+    "texts": {"parts_of": "(text)"},
+    "entries": {"entry_of": "(told)"},
+}
+CLASSES = {
+    "labels": {
+        "Label": {
+            "__init__": "(self, *marks)", "is_below": "(self, other)", "below": "(self)", "__len__": "(self)",
+            "__str__": "(self)", "__repr__": "(self)", "__eq__": "(self, other)", "__or__": "(self, other)",
+            "__and__": "(self, other)", "__contains__": "(self, mark)",
+        },
+    },
+    "layers": {
+        "Layers": {
+            "__init__": "(self)", "put_row": "(self, label, row)", "mark_gone": "(self, label, key)",
+            "drop_entry": "(self, label, key)", "entry": "(self, label, key)", "layer": "(self, label)",
+            "overlay": "(self, label)", "clone": "(self)", "__len__": "(self)", "__eq__": "(self, other)",
+        },
+    },
+    "expressions": {
+        "Expression": {
+            "__init__": "(self, text)", "parts": "(self)", "columns": "(self)", "sort_in": "(self, columns)",
+            "value_in": "(self, values)", "__len__": "(self)", "__str__": "(self)", "__repr__": "(self)",
+            "__eq__": "(self, other)",
+        },
+    },
+    "queries": {
+        "Query": {
+            "__init__": "(self, text)", "sources": "(self)", "item_list": "(self)", "where": "(self)", "groups": "(self)",
+            "orders": "(self)", "most_rows": "(self)", "columns_in": "(self, sources)", "bound": "(self, sources)",
+            "__str__": "(self)", "__repr__": "(self)", "__eq__": "(self, other)",
+        },
+    },
+    "entries": {
+        "Table": {"__init__": "(self, name, columns)"},
+        "View": {"__init__": "(self, name, query)"},
+        "Check": {"__init__": "(self, name, table, condition)"},
+        "Reference": {"__init__": "(self, name, table, column, target, *, rule='restrict')"},
+        "Index": {"__init__": "(self, name, table, column)"},
+        "Right": {"__init__": "(self, name, user, mark)"},
+    },
+}
+PROPERTIES = (("labels", "Label", "marks"), ("expressions", "Expression", "text"), ("queries", "Query", "text"),
+              ("queries", "Query", "is_grouped"))
+GENERATORS = (("labels", "Label", "below"), ("layers", "Layers", "overlay"))
+
+
+def module(name):
+    return importlib.import_module(f"aboveless.{name}")
+
+
+class InterfaceTest(unittest.TestCase):
+    def test_functions(self):
+        for file, functions in FUNCTIONS.items():
+            for name, parameters in functions.items():
+                function = getattr(module(file), name)
+                self.assertEqual(function.__module__, f"aboveless.{file}")
+                self.assertEqual(str(inspect.signature(function)), parameters, name)
+
+    def test_methods_stand_in_the_class_itself(self):
+        for file, classes in CLASSES.items():
+            for name, methods in classes.items():
+                made = getattr(module(file), name)
+                self.assertEqual(made.__module__, f"aboveless.{file}")
+                for method, parameters in methods.items():
+                    self.assertEqual(str(inspect.signature(vars(made)[method])), parameters, (name, method))
+
+    def test_methods_of_entries(self):
+        for name in CLASSES["entries"]:
+            made = vars(getattr(module("entries"), name))
+            for method, parameters in (("sources", "(self)"), ("bound", "(self, sources)"), ("told", "(self)")):
+                self.assertEqual(str(inspect.signature(made[method])), parameters, (name, method))
+            self.assertIsInstance(made["KIND"], str)
+
+    def test_properties_and_class_methods(self):
+        for file, name, method in PROPERTIES:
+            self.assertIsInstance(vars(getattr(module(file), name))[method], property)
+        self.assertIsInstance(vars(module("labels").Label)["of_text"], classmethod)
+        self.assertEqual(str(inspect.signature(module("labels").Label.of_text)), "(text)")
+
+    def test_generators(self):
+        for file, name, method in GENERATORS:
+            self.assertTrue(inspect.isgeneratorfunction(vars(getattr(module(file), name))[method]))
+
+
+if __name__ == "__main__":
+    unittest.main()
