@@ -35,8 +35,9 @@ def marks_of_text(text):
     return marks if marks == sorted(set(marks)) else None
 
 
-def is_label_text(value):
-    return isinstance(value, str) and marks_of_text(value) is not None
+def is_label_text(text):
+    """Whether a string is the text of a label."""
+    return marks_of_text(text) is not None
 
 
 class Label:

@@ -251,6 +251,14 @@ class ColumnsTest(unittest.TestCase):
         self.assertEqual(Query(query(items)).columns_in(SOURCES), expected)
         self.assertEqual(exact(Query(query(items)).columns_in(SOURCES))[0], "list")
 
+    def test_sorts_of_grouped_items(self):
+        for word, of_int, of_text in (("sum", "int", None), ("least", "int", "text"), ("greatest", "int", "text")):
+            for column, sort in (("p.age", of_int), ("p.name", of_text), ("p.ill", None)):
+                made = Query(query(f"(n ({word} {column}))", more=" (group)"))
+                expected = ("error", ("WrongSort", ("items", 0))) if sort is None else ("done", [("n", sort)])
+                self.assertEqual(end_of(made.columns_in, SOURCES), expected)
+        self.assertEqual(Query(query("(n (count))", more=" (group)")).columns_in(SOURCES), [("n", "int")])
+
     def test_lists_and_tuples_of_columns(self):
         for columns in ([("a", "int", False), ("b", "text", True)], (("a", "int", False), ("b", "text", True))):
             made = Query(query("(x p.a) (y p.b)"))

@@ -69,6 +69,14 @@ class PartsTest(unittest.TestCase):
             self.assertEqual(parts_of(text), parts)
             self.assertEqual(parts_of(text=text), parts)
 
+    def test_each_character(self):
+        for code in range(33, 127):
+            sign = chr(code)
+            if sign not in "()'%":
+                self.assertEqual(parts_of(f"({sign} a{sign}{sign}b)"), [sign, f"a{sign}{sign}b"])
+            if sign not in "'%":
+                self.assertEqual(parts_of(f"('{sign}' ' {sign} ')"), [f"'{sign}'", f"' {sign} '"])
+
     def test_depth(self):
         for depth in range(1, 14):
             self.assertEqual(parts_of(nested(depth)), [nested(depth - 1)] if depth > 1 else [])
