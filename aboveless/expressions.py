@@ -40,6 +40,10 @@ def product_of(first, second):
     return first * second
 
 
+def joined(first, second):
+    return first + second
+
+
 def size_of(part):
     return len(part)
 
@@ -81,7 +85,7 @@ STRICT = {
     "add": sum_of,
     "sub": difference_of,
     "mul": product_of,
-    "cat": sum_of,
+    "cat": joined,
     "size": size_of,
     "same": are_same,
     "less": is_less,
