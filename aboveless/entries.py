@@ -8,6 +8,7 @@ from aboveless.queries import Query, bound_source
 from aboveless.sources import is_source
 from aboveless.values import KEY_SORTS, is_name, is_sort
 
+KINDS = ("table", "view", "check", "reference", "index", "right")
 MOST_COLUMNS = 6
 RULES = ("restrict", "cascade", "empty")
 # how many elements each kind of entry tells

@@ -2,6 +2,7 @@
 
 import ast
 import builtins
+import functools
 import pathlib
 import unittest
 
@@ -28,11 +29,12 @@ OPERATORS = SPECIAL[9:]
 FUNCTIONS = (ast.FunctionDef,)
 
 
+ALL_NODES = [(path.name, node) for path, tree in TREES.items() for node in ast.walk(tree)]
+
+
+@functools.lru_cache(maxsize=None)
 def nodes(kind):
-    for path, tree in TREES.items():
-        for node in ast.walk(tree):
-            if isinstance(node, kind):
-                yield path.name, node
+    return [(name, node) for name, node in ALL_NODES if isinstance(node, kind)]
 
 
 def functions():
@@ -227,7 +229,7 @@ class StatementsTest(unittest.TestCase):
                     self.assertIn(keyword.arg, keywords.get(name, []), (path, node.lineno))
             for part in node.args:
                 if isinstance(part, ast.Starred):
-                    self.assertIsInstance(part.value, ast.Name, (path, node.lineno))
+                    self.assertTrue(is_plain_star(part.value), (path, node.lineno))
 
     def test_methods_of_builtin_values(self):
         own = {function.name for function in functions()}
@@ -272,6 +274,13 @@ class StatementsTest(unittest.TestCase):
                     self.assertNotEqual(ast.unparse(node.func.value), source, (path, node.lineno))
                 if isinstance(node, ast.Subscript) and isinstance(node.ctx, (ast.Store, ast.Del)):
                     self.assertNotIn(ast.unparse(node.value), (source, source.split(".items")[0]), (path, node.lineno))
+
+
+def is_plain_star(value):
+    """Whether what stands behind a star is a name, or an attribute off a name that is no property."""
+    if isinstance(value, ast.Attribute):
+        return isinstance(value.value, ast.Name) and value.attr not in property_names()
+    return isinstance(value, ast.Name)
 
 
 def is_iterated(node, holder):

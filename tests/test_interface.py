@@ -14,6 +14,8 @@ FUNCTIONS = {
     },
     "texts": {"parts_of": "(text)"},
     "entries": {"entry_of": "(told)"},
+    "joining": {"combinations": "(world, query)"},
+    "answers": {"answer": "(world, query)", "basis": "(world, query, position)"},
 }
 CLASSES = {
     "labels": {
@@ -52,10 +54,25 @@ CLASSES = {
         "Index": {"__init__": "(self, name, table, column)"},
         "Right": {"__init__": "(self, name, user, mark)"},
     },
+    "base": {
+        "Base": {
+            "__init__": "(self, *marks)", "define": "(self, label, entry)", "drop": "(self, label, kind, name)",
+            "put_row": "(self, label, source, row)", "mark_gone": "(self, label, source, key)",
+            "drop_entry": "(self, label, source, key)", "apply": "(self, label, changes)", "entries": "(self, label)",
+            "layer": "(self, label, source)", "world": "(self, label)", "clone": "(self)", "__eq__": "(self, other)",
+        },
+    },
+    "worlds": {
+        "World": {
+            "entries": "(self, kind=None)", "suspended_entries": "(self)", "entry": "(self, kind, name, label)",
+            "tables": "(self)", "source_id": "(self, text)", "columns": "(self, text)", "rows": "(self, text)",
+            "standing_row": "(self, text, key)", "suspended": "(self)", "__len__": "(self)", "__eq__": "(self, other)",
+        },
+    },
 }
 PROPERTIES = (("labels", "Label", "marks"), ("expressions", "Expression", "text"), ("queries", "Query", "text"),
-              ("queries", "Query", "is_grouped"))
-GENERATORS = (("labels", "Label", "below"), ("layers", "Layers", "overlay"))
+              ("queries", "Query", "is_grouped"), ("base", "Base", "marks"), ("worlds", "World", "label"))
+GENERATORS = (("labels", "Label", "below"), ("layers", "Layers", "overlay"), ("worlds", "World", "rows"))
 
 
 def module(name):
@@ -94,6 +111,7 @@ class InterfaceTest(unittest.TestCase):
     def test_generators(self):
         for file, name, method in GENERATORS:
             self.assertTrue(inspect.isgeneratorfunction(vars(getattr(module(file), name))[method]))
+        self.assertTrue(inspect.isgeneratorfunction(module("joining").combinations))
 
 
 if __name__ == "__main__":
