@@ -132,7 +132,6 @@ class Base:
 
     def layer_entry(self, label, source, key):
         """The row, "gone" or None at any key of the own layer."""
-        self._check_id(label, source)
         return self._layers_of(source).entry(label, key)
 
     def has_entry_below(self, label, source, key):

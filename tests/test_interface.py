@@ -16,6 +16,8 @@ FUNCTIONS = {
     "entries": {"entry_of": "(told)"},
     "joining": {"combinations": "(world, query)"},
     "answers": {"answer": "(world, query)", "basis": "(world, query, position)"},
+    "rules": {"remove_set": "(world, text, key)", "emptied": "(world, text, key)"},
+    "statistics": {"statistics": "(world)", "rounded": "(count)"},
 }
 CLASSES = {
     "labels": {
@@ -69,9 +71,25 @@ CLASSES = {
             "standing_row": "(self, text, key)", "suspended": "(self)", "__len__": "(self)", "__eq__": "(self, other)",
         },
     },
+    "writes": {
+        "Writer": {
+            "__init__": "(self, base, label, *, session=0, given=0)", "add_row": "(self, table, values)",
+            "change_row": "(self, table, key, columns)", "take_row": "(self, table, key)",
+            "revert_row": "(self, table, key)", "define": "(self, entry)", "drop": "(self, kind, name)",
+            "changes": "(self)",
+        },
+    },
+    "indexes": {
+        "IndexTree": {
+            "__init__": "(self)", "put_entry": "(self, label, value, key)", "take_entry": "(self, label, value, key)",
+            "entries_at": "(self, label, value)", "steps": "(self, label, value)", "different": "(self, label)",
+            "__len__": "(self)",
+        },
+    },
 }
 PROPERTIES = (("labels", "Label", "marks"), ("expressions", "Expression", "text"), ("queries", "Query", "text"),
-              ("queries", "Query", "is_grouped"), ("base", "Base", "marks"), ("worlds", "World", "label"))
+              ("queries", "Query", "is_grouped"), ("base", "Base", "marks"), ("worlds", "World", "label"),
+              ("writes", "Writer", "given"))
 GENERATORS = (("labels", "Label", "below"), ("layers", "Layers", "overlay"), ("worlds", "World", "rows"))
 
 
