@@ -171,8 +171,8 @@ class Base:
     def _forms(self):
         # what became empty is like what never was
         catalogs = {text: [entry.told() for entry in entries] for text, entries in self._catalogs.items() if entries}
-        layers = {source: layers for source, layers in self._layers.items() if len(layers) > 0}
-        return (self._marks, catalogs, layers)
+        filled = {source: layers for source, layers in self._layers.items() if len(layers) > 0}
+        return (self._marks, catalogs, filled)
 
     def __eq__(self, other):
         return isinstance(other, Base) and self._forms() == other._forms()
