@@ -162,6 +162,14 @@ class Base:
         elif self.layer_entry(label, change[1], change[2]) is not None:
             self.drop_entry(label, change[1], change[2])
 
+    def own_changes(self, label):
+        """The changes that, performed on nothing, give the own catalog and the own layers of a label."""
+        changes = [("define", told) for told in self.entries(label)]
+        for source in sorted(self._layers):
+            for key, entry in self._layers[source].layer(label).items():
+                changes.append(("gone", source, key) if entry == Layers.GONE else ("put", source, entry))
+        return changes
+
     def clone(self):
         copied = Base(*self._marks)
         copied._catalogs = {text: list(entries) for text, entries in self._catalogs.items()}

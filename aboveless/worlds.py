@@ -100,6 +100,13 @@ class World:
             raise UnknownSource(text)
         return source
 
+    def view_id(self, text):
+        """The ID of the view that the text means."""
+        source = self.source_id(text)
+        if source not in self._queries:
+            raise UnknownSource(text)
+        return source
+
     def view_query(self, source):
         """The bound query of the standing view with this ID."""
         return self._queries[source]

@@ -47,8 +47,8 @@ def emptied_rows(world, columns):
     ]
 
 
-def takes_number(rules, values):
-    """Whether the row of these values gets a number as its key."""
+def takes_key(rules, values):
+    """Whether the row of these values gets a key that is made for it."""
     return len(values) > 0 and values[0] is None and rules.column_list[0][1] == "text"
 
 
@@ -71,7 +71,7 @@ class Writer:
     def given(self):
         return self._given
 
-    def _world(self):
+    def own_world(self):
         return self._base.world(self._label)
 
     def _make(self, changes):
@@ -90,15 +90,21 @@ class Writer:
         return number
 
     def add_row(self, table, values):
-        world = self._world()
+        return self.add_row_as(table, values, None)
+
+    def add_row_as(self, table, values, key):
+        """Inserts a row; if a key is made for it, this is the key that is passed, or a number for None."""
+        world = self.own_world()
         source = world.table_id(table)
         rules = world.rules_of(source)
         reached = self._given
         row = tuple(values)
-        if takes_number(rules, row):
+        if takes_key(rules, row) and key is None:
             number = self._free_number(world, source)
             row = (self._number_key(number),) + row[1:]
             reached = number + 1
+        elif takes_key(rules, row):
+            row = (key,) + row[1:]
         if not rules.fits(row):
             raise WrongValues(tuple(values))
         self._check_key(world, source, row[0])
@@ -115,7 +121,7 @@ class Writer:
             raise Waiting(key)
 
     def change_row(self, table, key, columns):
-        world = self._world()
+        world = self.own_world()
         source = world.table_id(table)
         row = world.standing_row(source, key)
         if row is None:
@@ -131,7 +137,7 @@ class Writer:
         self._make([("put", source, changed)])
 
     def take_row(self, table, key):
-        world = self._world()
+        world = self.own_world()
         source = world.table_id(table)
         removed = removed_places(world, standing_place(world, source, key))
         found = restricting(world, removed)
@@ -155,7 +161,7 @@ class Writer:
         return (word, source, key)
 
     def revert_row(self, table, key):
-        world = self._world()
+        world = self.own_world()
         source = world.table_id(table)
         reverted = self._base.clone()
         reverted.drop_entry(self._label, source, key)

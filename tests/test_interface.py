@@ -18,6 +18,11 @@ FUNCTIONS = {
     "answers": {"answer": "(world, query)", "basis": "(world, query, position)"},
     "rules": {"remove_set": "(world, text, key)", "emptied": "(world, text, key)"},
     "statistics": {"statistics": "(world)", "rounded": "(count)"},
+    "plans": {
+        "estimate": "(world, query, plan)", "best_plan": "(world, query)", "explained": "(world, query)",
+        "measure": "(world, query, *, within=None)",
+    },
+    "memos": {"differing": "(world, other)"},
 }
 CLASSES = {
     "labels": {
@@ -86,11 +91,29 @@ CLASSES = {
             "__len__": "(self)",
         },
     },
+    "sessions": {
+        "Engine": {
+            "__init__": "(self, *marks)", "base_copy": "(self)", "open_session": "(self, label)", "commits": "(self, label)",
+        },
+        "Session": {
+            "begin": "(self)", "do": "(self, command)", "commit": "(self)", "abandon": "(self)", "refresh": "(self, view)",
+            "memo": "(self, view)", "forget": "(self, view)",
+        },
+    },
+    "journals": {
+        "Keeper": {
+            "__init__": "(self, *marks)", "flush": "(self, label)", "length": "(self, label)", "safe": "(self, label)",
+            "durable": "(self, label)", "records": "(self, label)", "arrive": "(self, label, table, rows)",
+            "crash": "(self, kept=None)", "compact": "(self, label, count)",
+        },
+    },
 }
 PROPERTIES = (("labels", "Label", "marks"), ("expressions", "Expression", "text"), ("queries", "Query", "text"),
               ("queries", "Query", "is_grouped"), ("base", "Base", "marks"), ("worlds", "World", "label"),
-              ("writes", "Writer", "given"))
-GENERATORS = (("labels", "Label", "below"), ("layers", "Layers", "overlay"), ("worlds", "World", "rows"))
+              ("writes", "Writer", "given"), ("sessions", "Engine", "marks"), ("sessions", "Session", "label"),
+              ("sessions", "Session", "session_number"), ("sessions", "Session", "in_transaction"), ("sessions", "Session", "given"))
+GENERATORS = (("labels", "Label", "below"), ("layers", "Layers", "overlay"), ("worlds", "World", "rows"),
+              ("journals", "Keeper", "records"))
 
 
 def module(name):
