@@ -23,6 +23,12 @@ FUNCTIONS = {
         "measure": "(world, query, *, within=None)",
     },
     "memos": {"differing": "(world, other)"},
+    "replicas": {"deliver": "(replica, keeper, label, count)"},
+    "releases": {"may_release": "(world, user, mark)"},
+    "desk": {"columns_text": "(rows, *, width=10)"},
+    "histories": {
+        "played": "(desk, history)", "transcript": "(told, users, label)", "purge": "(told, history, users, label)",
+    },
 }
 CLASSES = {
     "labels": {
@@ -107,11 +113,26 @@ CLASSES = {
             "crash": "(self, kept=None)", "compact": "(self, label, count)",
         },
     },
+    "replicas": {
+        "Replica": {
+            "__init__": "(self, label, *marks)", "length": "(self, label)", "receive": "(self, label, *records)",
+            "present_cut": "(self)", "world": "(self, label)", "ask": "(self, label, text, *, at_least=None)",
+        },
+    },
+    "desk": {
+        "Desk": {
+            "__init__": "(self, *marks, replicas=())", "add_user": "(self, name, label)", "users": "(self)",
+            "line": "(self, user, text)", "crash": "(self, kept=None)", "deliver": "(self, replica, label, count)",
+            "read_at": "(self, replica, user, text)", "arrive": "(self, label, table, rows)", "keeper": "(self)",
+            "event": "(self, event)",
+        },
+    },
 }
 PROPERTIES = (("labels", "Label", "marks"), ("expressions", "Expression", "text"), ("queries", "Query", "text"),
               ("queries", "Query", "is_grouped"), ("base", "Base", "marks"), ("worlds", "World", "label"),
               ("writes", "Writer", "given"), ("sessions", "Engine", "marks"), ("sessions", "Session", "label"),
-              ("sessions", "Session", "session_number"), ("sessions", "Session", "in_transaction"), ("sessions", "Session", "given"))
+              ("sessions", "Session", "session_number"), ("sessions", "Session", "in_transaction"), ("sessions", "Session", "given"),
+              ("replicas", "Replica", "label"), ("replicas", "Replica", "marks"))
 GENERATORS = (("labels", "Label", "below"), ("layers", "Layers", "overlay"), ("worlds", "World", "rows"),
               ("journals", "Keeper", "records"))
 
