@@ -48,9 +48,8 @@ def released(told, history, users):
     arrivals = {}
     for at, event in enumerate(history):
         line = line_told(event)
-        if event[0] == "crash":
-            offers = {}
-        elif line[0] == "offer" and is_count_text(answers[at]):
+        if line[0] == "offer" and is_count_text(answers[at]):
+            # behind a crash it takes the place of an earlier one with this number
             word, table, lower, rows = line
             offers[(str(users[event[1]]), int(answers[at]))] = ("arrive", str(lower), table, rows)
         elif line[0] == "confirm" and is_confirmed(answers[at]):

@@ -3,8 +3,7 @@
 from aboveless.base import Base
 from aboveless.errors import InvalidCount, InvalidLabel
 from aboveless.recording import (
-    base_record, copied_record, greatest_session, is_base_record, last_number, new_record, number_of, prefix_number,
-    recovered_base
+    base_record, copied_record, greatest_session, last_number, new_record, number_of, prefix_number, recovered_base
 )
 from aboveless.sessions import Engine
 from aboveless.values import is_count
@@ -49,10 +48,8 @@ class Journal:
         return 0 if greatest is None else greatest + 1
 
     def least_base(self):
-        """The least number that a base record can have."""
-        if self._kept and is_base_record(self._kept[0]):
-            return number_of(self._kept[0])
-        return 1
+        """The least number that a base record can have: that of the first record, which may be one already."""
+        return number_of(self._kept[0]) if self._kept else 1
 
     def compact_to(self, label, number, base):
         """Replaces the records up to a number; base is an empty database."""

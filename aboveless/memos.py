@@ -12,7 +12,8 @@ def row_forms(world):
 def differing(world, other):
     first = row_forms(world)
     second = {} if other is None else row_forms(other)
-    return len([place for place in {**first, **second} if first.get(place) != second.get(place)])
+    places = {place: True for forms in (first, second) for place in forms}
+    return len([place for place in places if first.get(place) != second.get(place)])
 
 
 class Memos:

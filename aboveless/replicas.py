@@ -84,7 +84,6 @@ class Replica:
         return {text: last_number(counting[text]) for text in counting}
 
     def world(self, label):
-        self._empty.require_label(label)
         return recovered_base(self.marks, list(self._label.below()), self._counting()).world(label)
 
     def ask(self, label, text, *, at_least=None):

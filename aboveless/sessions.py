@@ -152,7 +152,8 @@ class Engine:
     def labels(self):
         """All labels that can be made of the marks, in order."""
         marks = self._base.marks
-        return list(Label(*marks).below())
+        highest = Label(*marks)
+        return list(highest.below())
 
     def world(self, label):
         return self._base.world(label)

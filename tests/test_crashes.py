@@ -476,7 +476,7 @@ class RandomTest(KeeperCase):
                     self.assertEqual([session.session_number for session in sessions], numbers)
                 shadow.note(keeper)
                 self.compare(keeper, shadow, labels)
-        self.assertGreater(min(crashes, lost, compacted), 60)
+        self.assertGreater(min(crashes, lost, compacted), 25)
 
     def compare(self, keeper, shadow, labels):
         for label in labels:

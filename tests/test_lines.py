@@ -3,7 +3,7 @@
 import unittest
 
 from aboveless.desk import Desk
-from tests.helpers import every_kind, exact
+from tests.helpers import error_of, every_kind, exact
 from tests.samples import LOW
 from tests.test_releases import ASKED, DeskCase
 
@@ -239,6 +239,14 @@ class ErrorTest(DeskCase):
         ):
             self.refuses(desk, "low", text, answer)
 
+    def test_keys_that_are_texts(self):
+        desk = self.desk(
+            ("low", "(table u (k text filled) (p text maybe))"), ("low", "(insert t 'x' 1)"), ("ann", "(insert u 'y' 'x')"),
+            ("low", "(reference r u p t restrict)"), ("low", "(check c t (less n 9))"))
+        for text, answer in (("(remove t 'x')", "Restricted r 'y'"), ("(insert u 'z' 'q')", "Missing r 'q'"), ("(change t 'x' (n 9))", "Broken c 'x'"),
+                             ("(revert t 'x')", "NoEntry 'x'"), ("(remove u 'z')", "NoRow 'z'"), ("(check d u (same k 'a'))", "WouldSuspend u:- 'y'")):
+            self.refuses(desk, "ann", text, answer)
+
     def test_waiting(self):
         desk = self.desk(("ann", "(insert t 'x' 7)"), ("low", "(check c t (less n 5))"))
         self.refuses(desk, "ann", "(insert t 'x' 1)", "Waiting 'x'")
@@ -345,14 +353,10 @@ class OtherTest(DeskCase):
         desk = Desk("a")
         desk.add_user("ann", LOW)
         for value in every_kind():
-            told = self.error(desk.line, value, "(suspended)")
-            self.assertEqual(told[0], "UnknownUser")
-            self.assertIs(told[1], value)
-            self.assertIs(self.error(desk.line, value, 5)[1], value)
-
-    def error(self, call, *given):
-        from tests.helpers import error_of
-        return error_of(call, *given)
+            for text in ("(suspended)", 5):
+                told = error_of(desk.line, value, text)
+                self.assertEqual(told[0], "UnknownUser")
+                self.assertIs(told[1], value)
 
     def test_lines_are_repeated_alike(self):
         desk = self.desk(("low", "(insert t 'x' 1)"))

@@ -256,7 +256,7 @@ class RandomTest(MeasureCase):
                 world = base.world(label)
                 self.takes(world, query, model_steps(world, query))
                 by_index += any(way is not None for _, way in best_plan(world, query))
-        self.assertGreater(by_index, 10)
+        self.assertGreater(by_index, 4)
 
     def test_what_is_not_below_makes_no_difference(self):
         for seed in range(30):

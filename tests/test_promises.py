@@ -410,7 +410,7 @@ class SerialTest(unittest.TestCase):
                              sorted((str(label), record[1]) for label in LABELS for record in self.keeper.records(label)))
             for label in LABELS:
                 self.one_after_another(label)
-        self.assertGreater(many, 300)
+        self.assertGreater(many, 200)
 
     def one_after_another(self, label):
         base = Base("a", "b")

@@ -5,11 +5,12 @@ import unittest
 
 from aboveless.answers import answer
 from aboveless.base import Base
+from aboveless.entries import Check, Index
 from aboveless.journals import Keeper
 from aboveless.labels import Label
 from aboveless.queries import Query
 from aboveless.replicas import Replica, deliver
-from tests.helpers import error_of, every_kind, exact, unchanged
+from tests.helpers import end_of, error_of, every_kind, exact, unchanged
 from tests.samples import A, AB, B, LOW
 from tests.test_journals import KeeperCase, T, row
 
@@ -240,6 +241,22 @@ class CutTest(ReplicaCase):
         self.cut(replica, 2, 4)
         self.keys(replica, A, "k0", "k1", "q1-", "q2a", "q3a")
 
+    def test_a_base_record_stands_for_all_before_it(self):
+        keeper, replica = self.safe(LOW), Replica(A, "a", "b")
+        low = keeper.open_session(LOW)
+        low.do(("define", Check("c", "t", "(less n 9)")))
+        keeper.flush(LOW)
+        self.assertEqual(deliver(replica, keeper, LOW, 9), 3)
+        for command in (("drop", "check", "c"), row("x", 10), ("remove", "t", "k0"), ("define", Check("d", "t", "(less n 99)"))):
+            low.do(command)
+        keeper.flush(LOW)
+        keeper.compact(LOW, 6)
+        self.assertEqual(deliver(replica, keeper, LOW, 1), 1)
+        self.keys(replica, A, "x")
+        self.assertEqual(replica.world(LOW).entries(), [("table", "t", LOW)])
+        self.assertEqual(deliver(replica, keeper, LOW, 1), 1)
+        self.assertEqual(replica.world(LOW), keeper.world(LOW))
+
     def test_a_base_record_of_a_lower_journal(self):
         keeper, replica = self.safe(LOW, A, LOW, A, LOW), Replica(A, "a", "b")
         keeper.compact(LOW, 4)
@@ -382,7 +399,9 @@ class RandomTest(ReplicaCase):
                 label = chance.choice(labels)
                 way = chance.random()
                 if way < 0.4:
-                    chance.choice(sessions).do(row(None, at))
+                    key = f"k{chance.randint(0, 4)}"
+                    end_of(chance.choice(sessions).do, chance.choice([
+                        row(key, at), row(key, at), row(None, at), ("remove", "t", key), ("define", Index("i", "t", "n")), ("drop", "index", "i")]))
                 elif way < 0.6:
                     keeper.flush(label)
                 elif way < 0.7:
@@ -409,7 +428,7 @@ class RandomTest(ReplicaCase):
                     waiting += any(cut[text] < replica.length(Label.of_text(text)) for text in cut)
             for replica in replicas:
                 self.is_the_state(replica, history)
-        self.assertGreater(waiting, cuts // 20)
+        self.assertGreater(waiting, cuts // 60)
 
     def is_the_state(self, replica, history):
         """The world of each label below is that of the records of the cut, as they were before a compaction."""
